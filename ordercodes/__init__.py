@@ -1,0 +1,1 @@
+"""Ordercodes: words that sort as their keys do."""

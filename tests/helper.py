@@ -1,0 +1,107 @@
+"""What several tests use: exact comparison, odd values, and slow ways to find the same results."""
+
+from itertools import product
+
+from ordercodes.errors import NoFit
+
+C = ((0,), (1, 0), (1, 1, 0), (1, 1, 1))
+
+
+def nested(depth):
+    """A tuple in a tuple in a tuple, so deep."""
+    value = ()
+    for _ in range(depth):
+        value = (value,)
+    return value
+
+
+# Values that are no word, no code, no row, no joined words and no number, whatever the number of signs.
+ODD = [
+    None, True, False, -1, -10 ** 39, "", "0", "0 1", "a\nb", [], [0], [1, 2], [(0,), (1,)], {}, {0: 1}, {(0,): 0},
+    NoFit(0), (None,), (True,), (False,), (0, True), (1, False), ("0",), ("",), ([],), ([0],), ({},), (NoFit(1),),
+    (-1,), (0, -1), (10 ** 39,), (0, 10 ** 39), (-10 ** 39,), ((((0,),),),), ((0, [1]),), ([(0,)], [(1,)]),
+    nested(11), ([[[[[[[[[[[]]]]]]]]]]],), tuple([None] * 9999), tuple([-1] * 9999), (17, -1), "0" * 3000,
+]
+
+
+def same(case, got, wanted):
+    """Fail unless both are equal with the same kinds at every depth: True is not 1, a list no tuple."""
+    case.assertEqual(got, wanted)
+    case.assertEqual(repr(got), repr(wanted))
+
+
+def only_tuples(value):
+    """Tell whether value is made of tuples, integers, strings, True, False and None alone."""
+    if isinstance(value, tuple):
+        return all(only_tuples(item) for item in value)
+    return value is None or isinstance(value, (int, str))
+
+
+def fields_of(case, error, call, *told):
+    """Call, fail unless just this error is raised, and return its fields."""
+    with case.assertRaises(error) as caught:
+        call(*told)
+    case.assertIs(type(caught.exception), error)
+    return dict(vars(caught.exception))
+
+
+def begins(one, other):
+    return len(one) <= len(other) and all(other[place] == one[place] for place in range(len(one)))
+
+
+def all_words(signs, most):
+    """All words of at most so many signs, ascending."""
+    return sorted(word for size in range(most + 1) for word in product(range(signs), repeat=size))
+
+
+def is_code(words):
+    """Tell whether the words ascend and none begins another one, by a look at each two of them."""
+    return all(one < other and not begins(one, other) and not begins(other, one)
+               for place, one in enumerate(words) for other in words[place + 1:])
+
+
+def all_rows(most_keys, most):
+    """All rows of at most so many lengths up to the greatest one."""
+    return [row for keys in range(1, most_keys + 1) for row in product(range(most + 1), repeat=keys)]
+
+
+def all_codes(signs, row):
+    """All codes with these lengths in ascending order, by going through all words."""
+    found = [()]
+    for length in row:
+        found = [words + (word,) for words in found for word in product(range(signs), repeat=length)
+                 if is_code(words[-1:] + (word,))]
+    assert all(is_code(words) for words in found)
+    return sorted(found)
+
+
+def ways_by_place(signs, row):
+    """How many codes there are, by the places at which words begin when the longest ones lie side by side."""
+    longest = max(row)
+    end = signs ** longest
+    ways = [1] * (end + 1)
+    for length in reversed(row):
+        size = signs ** (longest - length)
+        fewer = [0] * (end + 1)
+        for place in range(end - 1, -1, -1):
+            fewer[place] = fewer[place + 1]
+            if place % size == 0 and place + size <= end:
+                fewer[place] += ways[place + size]
+        ways = fewer
+    return ways[0]
+
+
+def number_as_word(signs, number, length):
+    """The word of this length with the number, all words of the length being numbered in ascending order."""
+    word = ()
+    for _ in range(length):
+        word = (number % signs,) + word
+        number //= signs
+    return word
+
+
+def word_as_number(signs, word):
+    number = 0
+    for sign in word:
+        number = number * signs + sign
+    return number

@@ -1,0 +1,110 @@
+"""[3] [22] The conventions: kinds of results, arguments left alone, equal calls, names and places."""
+
+import copy
+import inspect
+from unittest import TestCase
+
+from ordercodes import codes, rows
+from ordercodes.errors import CodeError
+from tests.helper import ODD, C, only_tuples, same
+
+# Each function of the interface with the names of its arguments, and an example of each.
+CALLS = [
+    (codes.is_word, {"signs": 2, "value": (0, 1)}),
+    (codes.is_start, {"one": (1,), "other": (1, 0)}),
+    (codes.parted, {"one": (1, 0), "other": (1, 1, 0)}),
+    (codes.code_error, {"signs": 2, "value": C}),
+    (codes.code_error, {"signs": 2, "value": ((1,), (0,))}),
+    (codes.lengths, {"code": C}),
+    (codes.joined, {"code": C, "keys": (1, 0, 3)}),
+    (codes.read, {"signs": 2, "code": C, "value": (1, 0, 0, 1, 1, 1)}),
+    (rows.row_error, {"signs": 2, "value": (2, 1, 2)}),
+    (rows.first_code, {"signs": 2, "row": (3, 2, 3)}),
+    (rows.last_code, {"signs": 2, "row": (3, 2, 3)}),
+    (rows.words_of, {"signs": 2, "row": (3, 2, 3), "key": 1}),
+    (rows.count, {"signs": 2, "row": (3, 2, 3)}),
+    (rows.code_at, {"signs": 2, "row": (3, 2, 3), "value": 7}),
+    (rows.number_of, {"signs": 2, "code": C}),
+]
+INTERFACE = {
+    codes: ["is_word", "is_start", "parted", "code_error", "lengths", "joined", "read"],
+    rows: ["row_error", "first_code", "last_code", "words_of", "count", "code_at", "number_of"],
+}
+TAKING_ANY_VALUE = [
+    lambda value: codes.is_word(2, value),
+    lambda value: codes.code_error(2, value),
+    lambda value: codes.read(2, C, value),
+    lambda value: rows.row_error(2, value),
+    lambda value: rows.code_at(2, (3, 2, 3), value),
+]
+
+
+class InterfaceTest(TestCase):
+    def test_functions_are_defined_in_their_files(self):
+        for module, names in INTERFACE.items():
+            for name in names:
+                function = getattr(module, name)
+                self.assertTrue(inspect.isfunction(function))
+                self.assertEqual((function.__module__, function.__name__), (module.__name__, name))
+
+    def test_each_function_is_called_here(self):
+        called = {function for function, _ in CALLS}
+        self.assertEqual(called, {getattr(module, name) for module, names in INTERFACE.items() for name in names})
+
+    def test_names_of_arguments(self):
+        for function, told in CALLS:
+            self.assertEqual(list(inspect.signature(function).parameters), list(told), function.__name__)
+
+    def test_arguments_by_position_and_by_name(self):
+        for function, told in CALLS:
+            same(self, function(**told), function(*told.values()))
+            turned = {name: told[name] for name in reversed(told)}
+            same(self, function(**turned), function(*told.values()))
+
+
+class ResultsTest(TestCase):
+    def test_results_are_made_of_tuples(self):
+        for function, told in CALLS:
+            self.assertTrue(only_tuples(function(**told)), function.__name__)
+
+    def test_what_tells_whether_something_is_so_is_true_or_false(self):
+        for value in [(), (0,), (2,), None, 0, [], ""]:
+            self.assertIn(repr(codes.is_word(2, value)), ("True", "False"))
+        for one in [(), (0,), (1, 1)]:
+            self.assertIn(repr(codes.is_start(one, (0, 1))), ("True", "False"))
+
+    def test_equal_calls_give_equal_results(self):
+        for _ in range(2):
+            for function, told in CALLS:
+                same(self, function(**told), function(**copy.deepcopy(told)))
+
+    def test_results_do_not_depend_on_earlier_calls(self):
+        before = [function(**told) for function, told in CALLS]
+        for call in TAKING_ANY_VALUE:
+            outcomes(call, ODD)
+        same(self, [function(**told) for function, told in CALLS], before)
+
+
+class ArgumentsTest(TestCase):
+    def test_values_are_not_changed(self):
+        for call in TAKING_ANY_VALUE:
+            for value in [*ODD, list(C), {"row": [1, 2]}, ([3, 2, 3],)]:
+                shown = repr(value)
+                outcomes(call, [value])
+                self.assertEqual(repr(value), shown)
+
+    def test_any_value_raises_only_the_errors_told(self):
+        for call in TAKING_ANY_VALUE:
+            for told in outcomes(call, ODD + [C, (3, 2, 3), (), (0,), 0]):
+                self.assertNotIsInstance(told, (TypeError, KeyError, IndexError, AttributeError, RecursionError))
+
+
+def outcomes(call, values):
+    """What the call returns for each value, or the error of the package that it raises."""
+    found = []
+    for value in values:
+        try:
+            found.append(call(value))
+        except (CodeError, LookupError) as error:
+            found.append(error)
+    return found
