@@ -7,7 +7,8 @@ a word there are more such words: so many of its own length, then so many of the
 
 from ordercodes.bounds import MAX_KEYS, MAX_LONG
 from ordercodes.codes import lengths
-from ordercodes.errors import NoCode, NoFit
+from ordercodes.errors import NoCode
+from ordercodes.fits import first_words, last_words, least_words, nothing_held
 from ordercodes.kinds import are_whole, is_whole
 
 
@@ -15,56 +16,23 @@ def row_error(signs, value):
     """Return None if value is a row that fits, "row" if it is no row, else the first key that does not fit."""
     if not are_whole(value, 0, MAX_LONG) or not 1 <= len(value) <= MAX_KEYS:
         return "row"
-    many = len(least_words(signs, value))
+    many = len(least_words(signs, value, nothing_held(value)))
     return None if many == len(value) else many
 
 
 def first_code(signs, row):
     """Return the first code with these lengths; raise NoFit if there is none."""
-    words = least_words(signs, row)
-    if len(words) < len(row):
-        raise NoFit(len(words))
-    return tuple(words)
+    return first_words(signs, row, nothing_held(row))
 
 
 def last_code(signs, row):
     """Return the last code with these lengths; raise NoFit if there is none."""
-    # Called for its NoFit: the turned row below would tell a key as counted from behind.
-    first_code(signs, row)
-    # Seen from behind, with the greatest sign as the least one, it is the first code of the row turned round.
-    turned = first_code(signs, row[::-1])
-    return tuple([mirrored(signs, word) for word in turned[::-1]])
+    return last_words(signs, row, nothing_held(row))
 
 
 def words_of(signs, row, key):
     """Return the least and the greatest word of the key in the codes with these lengths."""
     return (first_code(signs, row)[key], last_code(signs, row)[key])
-
-
-def least_words(signs, row):
-    """Return the least words with these lengths, up to the first length for which there is none."""
-    words = [(0,) * row[0]]
-    for length in row[1:]:
-        word = next_word(signs, words[-1], length)
-        if word is None:
-            break
-        words.append(word)
-    return words
-
-
-def next_word(signs, word, length):
-    """Return the least word with this length behind word and all that it begins, None if there is none."""
-    head = word[:length]
-    while head and head[-1] == signs - 1:
-        head = head[:-1]
-    if not head:
-        return None
-    return head[:-1] + (head[-1] + 1,) + (0,) * (length - len(head))
-
-
-def mirrored(signs, word):
-    """Return the word with each sign counted from the greatest one."""
-    return tuple([signs - 1 - sign for sign in word])
 
 
 def count(signs, row):

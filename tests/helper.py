@@ -1,5 +1,6 @@
 """What several tests use: exact comparison, odd values, and slow ways to find the same results."""
 
+from functools import lru_cache
 from itertools import product
 
 from ordercodes.errors import NoFit
@@ -105,3 +106,45 @@ def word_as_number(signs, word):
     for sign in word:
         number = number * signs + sign
     return number
+
+
+@lru_cache(maxsize=None)
+def codes_within(signs, keys, most):
+    """All codes with so many keys and words of at most so many signs."""
+    words = all_words(signs, most)
+    found = [()]
+    for _ in range(keys):
+        found = [code + (word,) for code in found for word in words if is_code(code[-1:] + (word,))]
+    return found
+
+
+@lru_cache(maxsize=None)
+def rows_within(signs, keys, most):
+    """All rows of codes with so many keys and words of at most so many signs, ascending."""
+    return sorted({tuple(len(word) for word in code) for code in codes_within(signs, keys, most)})
+
+
+def least_by_cuts(signs, costs, most):
+    """The least pair of a sum of costs and the row that has it, of all rows that fit; None if there is none.
+
+    costs[key][length] is None if the key may not have the length. It goes through all ways to cut stretches.
+    """
+    @lru_cache(maxsize=None)
+    def under(first, end, depth):
+        found = [beside(first, end, depth + 1, signs)] if depth < most else []
+        if end - first == 1 and costs[first][depth] is not None:
+            found.append((costs[first][depth], (depth,)))
+        return min((told for told in found if told is not None), default=None)
+
+    @lru_cache(maxsize=None)
+    def beside(first, end, depth, many):
+        if first == end:
+            return (0, ())
+        found = []
+        for cut in range(first + 1, end + 1) if many else ():
+            one, rest = under(first, cut, depth), beside(cut, end, depth, many - 1)
+            if one is not None and rest is not None:
+                found.append((one[0] + rest[0], one[1] + rest[1]))
+        return min(found, default=None)
+
+    return under(0, len(costs), 0)

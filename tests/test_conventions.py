@@ -4,9 +4,12 @@ import copy
 import inspect
 from unittest import TestCase
 
-from ordercodes import codes, rows
+from ordercodes import bounds_of, codes, gaps, held, rows, totals
 from ordercodes.errors import CodeError
 from tests.helper import ODD, C, only_tuples, same
+
+BOX = ((1, 3), (1, 1), (0, 4))
+HELD = (None, (1, 0), None)
 
 # Each function of the interface with the names of its arguments, and an example of each.
 CALLS = [
@@ -25,10 +28,38 @@ CALLS = [
     (rows.count, {"signs": 2, "row": (3, 2, 3)}),
     (rows.code_at, {"signs": 2, "row": (3, 2, 3), "value": 7}),
     (rows.number_of, {"signs": 2, "code": C}),
+    (totals.total, {"weights": (5, 1, 1, 3), "row": (1, 2, 3, 3)}),
+    (totals.least_total, {"signs": 2, "weights": (5, 1, 1, 3), "most": 2}),
+    (totals.least_total, {"signs": 2, "weights": (5, 1, 1), "most": 1}),
+    (totals.best_row, {"signs": 2, "weights": (5, 1, 1, 3), "most": 16}),
+    (totals.is_best, {"signs": 2, "weights": (5, 1, 1, 3), "row": (1, 3, 3, 2), "most": 16}),
+    (totals.ledger, {"signs": 2, "weights": (5, 1, 1, 3)}),
+    (totals.is_ledger, {"signs": 2, "weights": (5, 1, 1), "value": ((6, 9), (2,))}),
+    (bounds_of.regret, {"signs": 2, "row": (1, 2, 2), "box": BOX}),
+    (bounds_of.worst, {"signs": 2, "row": (1, 2, 2), "box": BOX}),
+    (bounds_of.shown, {"signs": 2, "row": (1, 2, 2), "box": BOX, "value": ((1, 1, 4), (2, 2, 1))}),
+    (bounds_of.always_best, {"signs": 2, "row": (1, 2, 2), "box": BOX}),
+    (bounds_of.mended, {"signs": 2, "row": (1, 1, 1), "most": 3}),
+    (gaps.free, {"signs": 2, "code": ((0,), (1, 1))}),
+    (gaps.room, {"signs": 2, "code": ((0,), (1, 1)), "gap": 1, "most": 3}),
+    (gaps.put_in, {"signs": 2, "code": C, "gap": 1, "many": 2, "most": 4}),
+    (gaps.changed, {"signs": 2, "code": C, "gap": 1, "many": 2, "most": 4}),
+    (gaps.is_put, {"signs": 2, "code": ((0,),), "gap": 1, "many": 1, "most": 1, "value": ((0,), (1,))}),
+    (gaps.pages, {"code": C, "size": 2}),
+    (held.held_error, {"signs": 2, "row": (3, 2, 3), "value": (None, (0, 0), None)}),
+    (held.first_held, {"signs": 2, "row": (3, 2, 3), "held": HELD}),
+    (held.last_held, {"signs": 2, "row": (3, 2, 3), "held": HELD}),
+    (held.count_held, {"signs": 2, "row": (3, 2, 3), "held": HELD}),
+    (held.least_held, {"signs": 2, "weights": (5, 1, 1), "pins": HELD, "most": 3}),
+    (held.best_held, {"signs": 2, "weights": (5, 1, 1), "pins": HELD, "most": 3}),
 ]
 INTERFACE = {
     codes: ["is_word", "is_start", "parted", "code_error", "lengths", "joined", "read"],
     rows: ["row_error", "first_code", "last_code", "words_of", "count", "code_at", "number_of"],
+    totals: ["total", "least_total", "best_row", "is_best", "ledger", "is_ledger"],
+    bounds_of: ["regret", "worst", "shown", "always_best", "mended"],
+    gaps: ["free", "room", "put_in", "changed", "is_put", "pages"],
+    held: ["held_error", "first_held", "last_held", "count_held", "least_held", "best_held"],
 }
 TAKING_ANY_VALUE = [
     lambda value: codes.is_word(2, value),
@@ -36,6 +67,16 @@ TAKING_ANY_VALUE = [
     lambda value: codes.read(2, C, value),
     lambda value: rows.row_error(2, value),
     lambda value: rows.code_at(2, (3, 2, 3), value),
+    lambda value: totals.is_ledger(2, (5, 1, 1), value),
+    lambda value: bounds_of.shown(2, (1, 2, 2), BOX, value),
+    lambda value: gaps.is_put(2, C, 1, 1, 3, value),
+    lambda value: gaps.is_put(2, C, 1, 13, 3, value),
+    lambda value: held.held_error(2, (3, 2, 3), value),
+]
+TELLING_WHETHER = [
+    lambda value: codes.is_word(2, value),
+    lambda value: totals.is_ledger(2, (5, 1, 1), value),
+    lambda value: gaps.is_put(2, ((0,), (1,)), 1, 1, 2, value),
 ]
 
 
@@ -68,8 +109,12 @@ class ResultsTest(TestCase):
             self.assertTrue(only_tuples(function(**told)), function.__name__)
 
     def test_what_tells_whether_something_is_so_is_true_or_false(self):
-        for value in [(), (0,), (2,), None, 0, [], ""]:
-            self.assertIn(repr(codes.is_word(2, value)), ("True", "False"))
+        for call in TELLING_WHETHER:
+            for value in [(), (0,), (2,), None, 0, [], "", ((6, 9), (2,)), ((0,), (1, 0), (1, 1)), ((0, 0), (0, 1), (1,))]:
+                self.assertIn(repr(call(value)), ("True", "False"))
+        for row in [(1, 2, 2), (2, 2, 1), (1, 1, 1)]:
+            self.assertIn(repr(totals.is_best(2, (5, 1, 1), row, 3)), ("True", "False"))
+            self.assertIn(repr(bounds_of.always_best(2, row, BOX)), ("True", "False"))
         for one in [(), (0,), (1, 1)]:
             self.assertIn(repr(codes.is_start(one, (0, 1))), ("True", "False"))
 
@@ -88,7 +133,7 @@ class ResultsTest(TestCase):
 class ArgumentsTest(TestCase):
     def test_values_are_not_changed(self):
         for call in TAKING_ANY_VALUE:
-            for value in [*ODD, list(C), {"row": [1, 2]}, ([3, 2, 3],)]:
+            for value in [*ODD, list(C), {"row": [1, 2]}, ([3, 2, 3],), ([6, 9], [2]), [None, (1, 0), None], ((1, 1, 4), [2, 2, 1])]:
                 shown = repr(value)
                 outcomes(call, [value])
                 self.assertEqual(repr(value), shown)

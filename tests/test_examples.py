@@ -1,4 +1,4 @@
-"""The examples of the document's sections 1 and 2, as Python sessions."""
+"""The examples of the document's sections 1 to 5, and those of section 8 on words held, as Python sessions."""
 
 from doctest import DocTestParser, DocTestRunner
 from unittest import TestCase
@@ -20,6 +20,44 @@ SESSIONS = {
 >>> last_code(2, (3, 2, 3)), words_of(2, (3, 2, 3), 1), count(2, (3, 2, 3)), number_of(2, C), \
 code_at(2, (3, 2, 3), 15) == last_code(2, (3, 2, 3))
 (((0, 1, 1), (1, 0), (1, 1, 1)), ((0, 1), (1, 0)), 16, 0, True)
+""",
+    "section 3": """
+>>> from ordercodes.totals import best_row, is_best, is_ledger, least_total, ledger, total
+>>> least_total(2, (5, 1, 1, 3), 16), best_row(2, (5, 1, 1, 3), 16), least_total(2, (5, 1, 1, 3), 2), total((5, 1, \
+1, 3), (1, 2, 3, 3))
+(17, (1, 3, 3, 2), 20, 19)
+>>> is_ledger(2, (5, 1, 1), ((6, 9), (2,))), ledger(2, (5, 1, 1))[0][1], is_ledger(2, (5, 1, 1), ((6, 10), (2,))), \
+least_total(3, (5, 1, 1, 3), 16), least_total(2, (1, 1, 1), 1)
+(True, 9, False, 12, None)
+""",
+    "section 4": """
+>>> from ordercodes.bounds_of import always_best, mended, regret, shown, worst
+>>> regret(2, (1, 2, 2), ((1, 3), (1, 1), (0, 4))), shown(2, (1, 2, 2), ((1, 3), (1, 1), (0, 4)), ((1, 1, 4), (2, \
+2, 1)))
+(3, 3)
+>>> always_best(2, (1, 2, 2), ((4, 9), (1, 1), (0, 4))), mended(2, (1, 1, 1), 3), mended(2, (2, 1, 2), 4), \
+mended(2, (1, 1, 1), 1)
+(True, (1, 2, 2), (2, 2, 2), None)
+""",
+    "section 5": """
+>>> from ordercodes.gaps import changed, free, is_put, pages, put_in, room
+>>> free(2, ((0,), (1, 1))), room(2, ((0,), (1, 1)), 1, 3), room(2, C, 1, 16), changed(2, C, 1, 1, 3), pages(C, 2)
+(((), ((1, 0),), ()), 2, 0, 1, (2,))
+>>> is_put(2, C, 1, 1, 3, ((0, 0, 0), (0, 0, 1), (1, 0), (1, 1, 0), (1, 1, 1))), is_put(2, C, 1, 1, 3, ((0, 0), (0, \
+1), (1, 0), (1, 1, 0), (1, 1, 1))), is_put(2, C, 1, 1, 3, ((0,), (1, 0, 0), (1, 0, 1), (1, 1, 0), (1, 1, 1)))
+(True, True, True)
+""",
+    "section 8, words held": """
+>>> from ordercodes.held import best_held, count_held, first_held, held_error, last_held, least_held
+>>> held_error(2, (3, 2, 3), (None, (1, 0), None)), held_error(2, (3, 2, 3), (None, (0, 0), None)), held_error(2, \
+(3, 2, 3), (None, (1,), None))
+(None, 1, 'held')
+>>> first_held(2, (3, 2, 3), (None, (1, 0), None)), last_held(2, (3, 2, 3), (None, (1, 0), None)), count_held(2, \
+(3, 2, 3), (None, (1, 0), None))
+(((0, 0, 0), (1, 0), (1, 1, 0)), ((0, 1, 1), (1, 0), (1, 1, 1)), 8)
+>>> least_held(2, (5, 1, 1), (None, (1, 0), None), 3), best_held(2, (5, 1, 1), (None, (1, 0), None), 3), \
+least_held(2, (5, 1, 1), (None, (0,), None), 3)
+(9, (1, 2, 2), None)
 """,
 }
 

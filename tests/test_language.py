@@ -1,6 +1,7 @@
 """What every file of the package keeps to: its place, its size, its characters, its imports and its rows."""
 
 import ast
+import builtins
 from pathlib import Path
 from unittest import TestCase
 
@@ -10,6 +11,11 @@ FOLDER = Path(ordercodes.__file__).parent
 FILES = sorted(FOLDER.glob("*.py"))
 LIBRARY = {"heapq", "math", "itertools", "collections"}
 ROWS = (ast.Import, ast.ImportFrom, ast.FunctionDef, ast.ClassDef, ast.Assign)
+BUILTINS = {"len", "range", "enumerate", "zip", "min", "max", "sum", "abs", "sorted", "reversed", "int", "str", "bool", "list",
+            "tuple", "dict", "set", "isinstance", "any", "all", "ValueError", "LookupError"}
+# A session of examples leaves its last result there as _.
+ALL_BUILTINS = {name for name in vars(builtins) if name != "_"}
+METHODS = {"append", "pop", "get", "items", "index", "count", "extend", "join", "split", "setdefault", "__init__"}
 BARRED = (ast.GeneratorExp, ast.Global, ast.AsyncFunctionDef, ast.Await, ast.Div)
 
 
@@ -61,3 +67,55 @@ class LanguageTest(TestCase):
         for name, node in self.nodes():
             self.assertNotIsInstance(node, BARRED, name)
             self.assertFalse(isinstance(node, ast.Constant) and isinstance(node.value, float), name)
+
+    def test_exponents_are_literal(self):
+        for name, node in self.nodes():
+            if isinstance(node, ast.BinOp) and isinstance(node.op, ast.Pow):
+                self.assertIsInstance(node.right, ast.Constant, name)
+                self.assertIn(node.right.value, range(65), name)
+
+    def test_only_simple_values_stand_behind_a_star_in_a_call(self):
+        for name, node in self.nodes():
+            if isinstance(node, ast.Call):
+                starred = [told.value for told in node.args if isinstance(told, ast.Starred)]
+                self.assertTrue(all(isinstance(told, (ast.Name, ast.Constant, ast.List, ast.Tuple)) for told in starred), name)
+
+    def test_is_stands_beside_none_true_and_false_only(self):
+        for name, node in self.nodes():
+            if isinstance(node, ast.Compare) and any(isinstance(sign, (ast.Is, ast.IsNot)) for sign in node.ops):
+                self.assertTrue(all(isinstance(told, ast.Constant) for told in node.comparators), name)
+
+    def test_builtins_are_those_allowed_and_keep_their_names(self):
+        for name, node in self.nodes():
+            if isinstance(node, ast.Name) and node.id in ALL_BUILTINS:
+                self.assertIsInstance(node.ctx, ast.Load, f"{name} {node.id}")
+                self.assertIn(node.id, BUILTINS, name)
+            if isinstance(node, (ast.arg, ast.FunctionDef, ast.ClassDef)):
+                told = node.arg if isinstance(node, ast.arg) else node.name
+                self.assertNotIn(told, ALL_BUILTINS, name)
+
+    def test_methods_are_those_allowed(self):
+        for name, node in self.nodes():
+            if isinstance(node, ast.Call) and isinstance(node.func, ast.Attribute):
+                self.assertIn(node.func.attr, METHODS, name)
+
+    def test_no_name_means_anything_else_than_the_import_of_its_file(self):
+        for file in FILES:
+            nodes = list(ast.walk(ast.parse(file.read_text())))
+            imported = {alias.name for node in nodes if isinstance(node, ast.ImportFrom) for alias in node.names}
+            given = {node.id for node in nodes if isinstance(node, ast.Name) and isinstance(node.ctx, ast.Store)}
+            given |= {node.arg for node in nodes if isinstance(node, ast.arg)}
+            self.assertEqual(imported & given, set(), file.name)
+            used = {node.id for node in nodes if isinstance(node, ast.Name) and isinstance(node.ctx, ast.Load)}
+            self.assertLessEqual(imported, used, file.name)
+
+    def test_no_two_files_import_from_each_other(self):
+        above = {file.stem: set() for file in FILES}
+        for name, node in self.nodes():
+            if isinstance(node, ast.ImportFrom) and node.module not in LIBRARY:
+                above[name[:-len(".py")]].add(node.module.split(".")[1])
+        while above:
+            free = [name for name, others in above.items() if not others & set(above)]
+            self.assertNotEqual(free, [], above)
+            for name in free:
+                del above[name]
