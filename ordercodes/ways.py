@@ -1,8 +1,9 @@
 """Ways to give words of told lengths to stretches of keys, counted for rows and where words are held.
 
 A table of a length has, as its item [i][m], in how many ways the m + 1 keys from i on can get words that all
-begin with one and the same word of this length. There is one table for each length of the row. A word of any
-other length stands for all words of the next greater length of the row that it begins.
+begin with one and the same word of this length; the item [i] ends with its last number that is not 0. There is
+one table for each length of the row: a word of any other length stands for all words that it begins of the next
+greater length of the row.
 
 Ways are counted for a place in a code: the item i tells in how many ways the keys from i on can be put behind it.
 """
@@ -28,9 +29,24 @@ def tables_of(signs, row):
 
 def table_above(table, many):
     """Return the table of so many words side by side that have this table each."""
-    size = len(table)
-    columns = [with_ahead(table, many, only_end(end)) for end in range(size + 1)]
-    return [without_last_zeros([columns[end][key] for end in range(key + 1, size + 1)]) for key in range(size)]
+    above = [[] for _ in table]
+    for first, end in runs_of(table):
+        rows = table[first:end]
+        columns = [with_ahead(rows, many, only_end(size)) for size in range(1, end - first + 1)]
+        for place in range(end - first):
+            above[first + place] = without_last_zeros([column[place] for column in columns[place:]])
+    return above
+
+
+def runs_of(table):
+    """Return pairs of the first key and the key behind the last one of each run of keys that can be put there."""
+    runs = []
+    for key, row in enumerate(table):
+        if row and runs and runs[-1][1] == key:
+            runs[-1] = (runs[-1][0], key + 1)
+        elif row:
+            runs.append((key, key + 1))
+    return runs
 
 
 def without_last_zeros(numbers):
@@ -55,7 +71,8 @@ def cuts_of(table, most, ways):
     cuts = [ways]
     while len(cuts) <= most and len(cuts[-1]) > 1:
         behind = cuts[-1]
-        cut = [sum([own * rest for own, rest in zip(table[key], behind[key + 1:])]) for key in range(len(behind) - 1)]
+        cut = [sum([own * rest for own, rest in zip(row, behind[key:])]) if row else 0
+               for key, row in enumerate(table[:len(behind) - 1], start=1)]
         if not any(cut):
             break
         cuts.append(cut)
@@ -69,6 +86,17 @@ def counted(cuts, many):
         # Of the words those that keys stand under are chosen.
         choices = comb(many, used)
         total = [ways + choices * more for ways, more in zip(total, cut)] + total[len(cut):]
+    return total
+
+
+def first_counted(cuts, many):
+    """Return the first one of the ways counted likewise."""
+    total = 0
+    choices = 1
+    for used, cut in enumerate(cuts):
+        total = total + choices * cut[0]
+        # Many numbers are tried with the same cuts, so the choices are not worked out anew for each cut.
+        choices = choices * (many - used) // (used + 1)
     return total
 
 

@@ -70,7 +70,8 @@ class RegretTest(TestCase):
                     same(self, always_best(signs, row, box), is_best(signs, weights, row, 16))
 
     def test_great_rows_by_going_through_all_cuts(self):
-        for signs, row in [(2, (16,) * 16), (2, (4,) * 16), (2, tuple(range(1, 12))), (3, (3,) * 12), (6, (2, 1, 3, 2, 2, 3, 1, 2, 2))]:
+        for signs, row in [(2, (16,) * 16), (2, (4,) * 16), (2, tuple(range(1, 12))), (3, (3,) * 12),
+                          (6, (2, 1, 3, 2, 2, 3, 1, 2, 2))]:
             for box in some_boxes(len(row), 1)[2:]:
                 most = len(row) - 1
                 costs = [[-max(low * (own - length), high * (own - length)) for length in range(most + 1)]

@@ -133,7 +133,8 @@ class ResultsTest(TestCase):
 class ArgumentsTest(TestCase):
     def test_values_are_not_changed(self):
         for call in TAKING_ANY_VALUE:
-            for value in [*ODD, list(C), {"row": [1, 2]}, ([3, 2, 3],), ([6, 9], [2]), [None, (1, 0), None], ((1, 1, 4), [2, 2, 1])]:
+            for value in [*ODD, list(C), {"row": [1, 2]}, ([3, 2, 3],), ([6, 9], [2]), [None, (1, 0), None],
+                          ((1, 1, 4), [2, 2, 1])]:
                 shown = repr(value)
                 outcomes(call, [value])
                 self.assertEqual(repr(value), shown)

@@ -12,8 +12,8 @@ from tests.helper import ODD, C, all_words, begins, codes_within, fields_of, is_
 
 ONE = ((),)
 SMALL = [(2, 1, 3), (2, 2, 3), (2, 3, 3), (2, 4, 3), (3, 1, 2), (3, 2, 2), (3, 3, 2), (4, 2, 2), (6, 1, 1), (6, 2, 1)]
-GREAT = [(2, (16,) * 16), (6, (16,) * 16), (2, tuple(range(1, 16)) + (15,)), (3, (16, 9, 3, 16, 12, 5, 7, 16)), (4, (2,) * 15),
-         (2, (4,) * 12), (5, (1, 16, 2, 16, 3))]
+GREAT = [(2, (16,) * 16), (6, (16,) * 16), (2, tuple(range(1, 16)) + (15,)), (3, (16, 9, 3, 16, 12, 5, 7, 16)),
+         (4, (2,) * 15), (2, (4,) * 12), (5, (1, 16, 2, 16, 3))]
 
 
 def small_codes():
@@ -85,7 +85,8 @@ class FreeTest(TestCase):
             # Together with the words of the code they fill all: each other word begins some, or some begin it.
             whole = sum(signs ** (16 - len(word)) for word in [*words, *code])
             same(self, whole, signs ** 16)
-            same(self, sorted([*words, *code]), [word for gap, one in enumerate(told) for word in [*one, *code[gap:gap + 1]]])
+            in_turn = [word for gap, one in enumerate(told) for word in [*one, *code[gap:gap + 1]]]
+            same(self, sorted([*words, *code]), in_turn)
 
 
 class RoomTest(TestCase):
@@ -180,7 +181,8 @@ class PutInTest(TestCase):
 
     def test_the_most_words_are_kept_by_going_through_all_lots_of_them(self):
         seed = Random(14)
-        for signs, row, most in [(2, (4,) * 9, 4), (2, (3, 5, 5, 4, 4, 5, 3, 2), 5), (3, (2,) * 7, 2), (2, (1, 3, 4, 5, 6, 6), 6)]:
+        for signs, row, most in [(2, (4,) * 9, 4), (2, (3, 5, 5, 4, 4, 5, 3, 2), 5), (3, (2,) * 7, 2),
+                                (2, (1, 3, 4, 5, 6, 6), 6)]:
             many_codes = count(signs, row)
             for number in {0, many_codes - 1, seed.randrange(many_codes), seed.randrange(many_codes)}:
                 code = code_at(signs, row, number)

@@ -62,7 +62,8 @@ class SmallHeldTest(TestCase):
         same(self, fields_of(self, NoFit, last_held, signs, row, held), {"key": key})
 
     def test_several_lengths(self):
-        for signs, row in [(2, (3, 2, 3)), (2, (4, 2, 3)), (3, (1, 2, 1)), (2, (2, 3, 3, 1)), (2, (3, 1, 3)), (2, (3, 3, 4))]:
+        for signs, row in [(2, (3, 2, 3)), (2, (4, 2, 3)), (3, (1, 2, 1)), (2, (2, 3, 3, 1)), (2, (3, 1, 3)),
+                          (2, (3, 3, 4))]:
             codes = all_codes(signs, row)
             heads = [all_codes(signs, row[:size]) for size in range(1, len(row) + 1)]
             for held in all_held(signs, row):
@@ -97,9 +98,9 @@ class HeldErrorTest(TestCase):
         row = (1, 2, 2)
         good = ((0,), None, (1, 1))
         wrong = [(), good[:2], good + (None,), list(good), ([0], None, None), ((0, 0), None, None), ((), None, None),
-                 ((False,), None, None), ((2,), None, None), (None, (1, True), None), (None, None, (0, -1)), (None, None, "11"),
-                 (None, None, (1, (1,))), (None, None, 3), (True, None, None), (False, None, None), (good,), "held", 0, 1, C,
-                 (None, None, [1, 1]), (None, None, {}), (None, None, (1, None)), nested(12), (None, None, (10 ** 39, 0))]
+                 ((False,), None, None), ((2,), None, None), (None, (1, True), None), (None, None, (0, -1)),
+                 (None, None, "11"), (None, None, (1, (1,))), (None, None, 3), (True, None, None), (False, None, None), (good,),
+                 "held", 0, 1, C, (None, None, [1, 1]), (None, None, {}), (None, None, (1, None)), nested(12), (None, None, (10 ** 39, 0))]
         same(self, held_error(2, row, good), None)
         for value in wrong + ODD:
             same(self, held_error(2, row, value), "held")
@@ -176,8 +177,9 @@ class GreatHeldTest(TestCase):
                 low, high = [word_as_number(signs, word) for word in words_of(signs, row, key)]
                 for number in (low - 1, low, high, high + 1):
                     if 0 <= number < signs ** row[key]:
-                        held = (None,) * key + (number_as_word(signs, number, row[key]),) + (None,) * (len(row) - key - 1)
-                        self.check_one(signs, row, held, low <= number <= high)
+                        held = [None] * len(row)
+                        held[key] = number_as_word(signs, number, row[key])
+                        self.check_one(signs, row, tuple(held), low <= number <= high)
 
     def check_one(self, signs, row, held, kept):
         same(self, held_error(signs, row, held) is None, kept)
@@ -197,8 +199,8 @@ class GreatHeldTest(TestCase):
 
 class LeastHeldTest(TestCase):
     # Signs, keys, the most signs, the most signs of a pin, and which part of the pins is gone through.
-    CASES = [(2, 1, 3, 4, 1), (2, 2, 3, 3, 1), (2, 3, 3, 3, 5), (2, 4, 3, 3, 97), (2, 4, 4, 4, 2999), (3, 2, 2, 2, 1), (3, 3, 2, 2, 7),
-             (3, 3, 3, 2, 31), (6, 2, 1, 1, 1), (4, 3, 2, 1, 1)]
+    CASES = [(2, 1, 3, 4, 1), (2, 2, 3, 3, 1), (2, 3, 3, 3, 5), (2, 4, 3, 3, 97), (2, 4, 4, 4, 2999), (3, 2, 2, 2, 1),
+             (3, 3, 2, 2, 7), (3, 3, 3, 2, 31), (6, 2, 1, 1, 1), (4, 3, 2, 1, 1)]
 
     def test_small_pins_by_going_through_all_codes(self):
         for signs, keys, most, longest, part in self.CASES:
@@ -244,8 +246,8 @@ class LeastHeldTest(TestCase):
 
     def test_pins_that_no_code_keeps(self):
         for pins in [((1,), None, None), (None, None, (0,)), ((0,), (0, 1), None), ((0, 1), (0,), None), ((1,), (0,), None),
-                     ((0,), (0,), None), ((0,), None, (1, 0)), ((0, 1, 1), None, (1, 0, 0)), ((), None, None), ((0,), (1,), None),
-                     (None, (0,), None), (None, (1, 1), None), ((0,) * 16, (0,) * 15 + (1,), (0,) * 15)]:
+                     ((0,), (0,), None), ((0,), None, (1, 0)), ((0, 1, 1), None, (1, 0, 0)), ((), None, None),
+                     ((0,), (1,), None), (None, (0,), None), (None, (1, 1), None), ((0,) * 16, (0,) * 15 + (1,), (0,) * 15)]:
             for most in (1, 2, 5, 16):
                 same(self, least_held(2, (1, 2, 3), pins, most), None)
                 same(self, best_held(2, (1, 2, 3), pins, most), None)
@@ -262,12 +264,16 @@ class LeastHeldTest(TestCase):
         same(self, [least_held(2, (5, 1), ((), None), 9), best_held(2, (5, 1), (None, ()), 9)], [None, None])
 
     def test_pins_among_more_keys_by_going_through_all_rows(self):
-        for signs, most, pins in [(2, 5, (None, None, (0, 1, 1), None, None, None)), (2, 5, (None, (0, 1), None, None, (1, 0, 1), None)),
-                                  (2, 5, ((0, 0, 0, 1), None, None, None, None, (1, 1, 1))), (3, 3, (None, (1, 0, 2), None, None, None)),
-                                  (6, 2, ((2, 3), None, None, (4,), None, None)), (2, 4, (None, (0, 1, 0, 1), (1, 0, 1, 0), None, None))]:
+        for signs, most, pins in [(2, 5, (None, None, (0, 1, 1), None, None, None)),
+                                  (2, 5, (None, (0, 1), None, None, (1, 0, 1), None)),
+                                  (2, 5, ((0, 0, 0, 1), None, None, None, None, (1, 1, 1))),
+                                  (3, 3, (None, (1, 0, 2), None, None, None)),
+                                  (6, 2, ((2, 3), None, None, (4,), None, None)),
+                                  (2, 4, (None, (0, 1, 0, 1), (1, 0, 1, 0), None, None))]:
             sizes = [range(1, most + 1) if word is None else [len(word)] for word in pins]
             rows = [row for row in product(*sizes) if held_error(signs, row, pins) is None]
-            for weights in [(1,) * len(pins), (0,) * len(pins), (3, 1, 4, 1, 5, 9)[:len(pins)], (1, 8, 0, 4, 0, 2)[:len(pins)]]:
+            for weights in [(1,) * 6, (0,) * 6, (3, 1, 4, 1, 5, 9), (1, 8, 0, 4, 0, 2)]:
+                weights = weights[:len(pins)]
                 told = min([(total(weights, row), row) for row in rows])
                 same(self, (least_held(signs, weights, pins, most), best_held(signs, weights, pins, most)), told)
 

@@ -1,10 +1,12 @@
 """[7] [8] Rows of lengths, their first and last codes, and all codes counted and numbered."""
 
 from math import comb
+from random import Random
 from unittest import TestCase
 
 from ordercodes.codes import code_error, lengths
 from ordercodes.errors import NoCode, NoFit
+from ordercodes.held import first_held, last_held
 from ordercodes.rows import code_at, count, first_code, last_code, number_of, row_error, words_of
 from tests.helper import (
     ODD, C, all_codes, all_rows, fields_of, number_as_word, same, ways_by_place, word_as_number,
@@ -28,6 +30,13 @@ LARGE = [
     (3, tuple(range(16, 0, -1))),
     (4, (3, 16, 9, 2, 16, 1, 12, 5, 7, 16, 3, 2, 11, 16, 4, 6)),
     (2, (6, 16, 9, 5, 16, 4, 12, 5, 7, 16, 3, 6, 11, 16, 4, 6)),
+    (6, (16,) * 8 + (15,) + (16,) * 7),
+    (5, (16, 15, 14, 13) * 4),
+    (6, (12, 13, 14, 15) + (16,) * 8 + (15, 14, 13, 12)),
+    (3, (16,) * 4 + (12,) * 4 + (8,) * 4 + (4,) * 4),
+    (4, (13,) * 16),
+    (6, (2, 16)),
+    (2, (7, 7, 7, 6, 6, 6, 6, 6, 5, 5, 4, 4, 4, 4, 4, 4)),
 ]
 
 
@@ -57,6 +66,19 @@ def put_behind(signs, words, row):
         if number >= end:
             return None
         words = words + (number_as_word(signs, number, length),)
+    return words
+
+
+def some_code(signs, row, seed):
+    """A code with these lengths, each word being any one that goes behind the words ahead of it."""
+    words = ()
+    for key, length in enumerate(row):
+        held = words + (None,) * (len(row) - key)
+        low = word_as_number(signs, first_held(signs, row, held)[key])
+        high = word_as_number(signs, last_held(signs, row, held)[key])
+        # Small steps are taken more often, so that there is something left to choose for the keys behind.
+        step = min(high - low, seed.randrange(high - low + 1) // (len(row) - key))
+        words = words + (number_as_word(signs, low + step, length),)
     return words
 
 
@@ -115,7 +137,9 @@ class SmallRowsTest(TestCase):
 
     def test_rows_of_many_keys_counted_by_places(self):
         for signs, row in [(2, (7,) * 16), (2, (6, 8, 5, 8, 7) * 3), (3, (4, 3, 5) * 5), (6, (3, 2, 4, 1) * 4),
-                           (2, (4, 3, 9, 2, 9, 9, 5)), (2, (1, 1)), (2, (4,) * 15 + (3,)), (4, (0, 3, 2))]:
+                           (2, (4, 3, 9, 2, 9, 9, 5)), (2, (1, 1)), (2, (4,) * 15 + (3,)), (4, (0, 3, 2)),
+                           (5, (3, 5, 5, 2, 4, 4, 1, 5)), (2, (12,) * 5 + (3,) + (12, 11) * 4), (2, tuple(range(1, 11)) + (10,)),
+                           (3, (8, 7, 6, 5, 4, 3, 2, 1)), (6, (5,) * 7 + (1,) + (5,) * 8), (2, (4, 8, 12, 8, 12, 4, 8, 12, 12))]:
             same(self, count(signs, row), ways_by_place(signs, row))
 
 
@@ -198,6 +222,25 @@ class LargeRowsTest(TestCase):
                 same(self, code_error(signs, code), None)
                 same(self, (lengths(code), number_of(signs, code)), (row, number))
                 same(self, code_at(signs, row, number + 1), next_code(signs, code))
+
+    def test_a_lesser_number_tells_a_lesser_code(self):
+        seed = Random(8)
+        for signs, row in LARGE:
+            many = count(signs, row)
+            numbers = sorted({0, many - 1, *[seed.randrange(many) for _ in range(9)]})
+            codes = [code_at(signs, row, number) for number in numbers]
+            same(self, codes, sorted(codes))
+            same(self, len(set(codes)), len(numbers))
+            same(self, [number_of(signs, code) for code in codes], numbers)
+
+    def test_codes_made_word_by_word_are_told_back(self):
+        seed = Random(16)
+        for signs, row in LARGE:
+            codes = sorted({some_code(signs, row, seed) for _ in range(6)} | {first_code(signs, row), last_code(signs, row)})
+            numbers = [number_of(signs, code) for code in codes]
+            same(self, numbers, sorted(set(numbers)))
+            same(self, (numbers[0], numbers[-1]), (0, count(signs, row) - 1))
+            same(self, [code_at(signs, row, number) for number in numbers], codes)
 
     def test_nothing_comes_behind_the_last_code(self):
         for signs, row in LARGE:
