@@ -26,9 +26,12 @@ def worst(signs, row, box):
 
 
 def costs_within(own, bounds, most):
-    """Return what each length up to most costs a key: the sum of the own row is furthest above the least cost."""
+    """Return what each length up to most costs a key with the own length, at the weight that shows most.
+
+    That is the high weight for the signs of the own length, and the low one for those that come to them: what
+    another row saves by these costs is how far its total can be below that of the own row.
+    """
     low, high = bounds
-    # The weight that shows most is the high one for signs that the other row saves, the low one for those it adds.
     return [high * min(length, own) + low * max(length - own, 0) for length in range(most + 1)]
 
 

@@ -70,6 +70,7 @@ def is_put(signs, code, gap, many, most, value):
         return False
     if max([len(word) for word in value]) > most:
         return False
+    # Value shows that so many keys have words, so what follows raises no TooMany.
     others = [key for key, word in enumerate(code) if value[number_behind(key, gap, many)] != word]
     return len(others) == changed(signs, code, gap, many, most)
 
