@@ -1,7 +1,7 @@
 """Words and codes, and reading keys by their joined words."""
 
 from ordercodes.bounds import MAX_KEYS, MAX_LONG
-from ordercodes.errors import BadRow
+from ordercodes.errors import BadIndex, BadRow
 from ordercodes.kinds import are_whole
 
 
@@ -38,6 +38,14 @@ def code_error(signs, value):
             if fault is not None:
                 return (number, fault)
     return None
+
+
+def check_code(signs, value):
+    """Raise BadIndex with the pair that code_error tells if value is no code."""
+    fault = code_error(signs, value)
+    if fault is not None:
+        number, what = fault
+        raise BadIndex(number, what)
 
 
 def neighbours_error(ahead, word):

@@ -4,7 +4,7 @@ import copy
 import inspect
 from unittest import TestCase
 
-from ordercodes import bounds_of, codes, gaps, held, rows, totals
+from ordercodes import bounds_of, codes, desks, gaps, held, indexes, ranges, rows, texts, totals
 from ordercodes.errors import CodeError
 from tests.helper import ODD, C, only_tuples, same
 
@@ -52,6 +52,14 @@ CALLS = [
     (held.count_held, {"signs": 2, "row": (3, 2, 3), "held": HELD}),
     (held.least_held, {"signs": 2, "weights": (5, 1, 1), "pins": HELD, "most": 3}),
     (held.best_held, {"signs": 2, "weights": (5, 1, 1), "pins": HELD, "most": 3}),
+    (ranges.told_by, {"code": C, "word": (1, 1)}),
+    (ranges.told_by, {"code": C, "word": (0, 0)}),
+    (ranges.cover, {"signs": 2, "code": C, "first": 0, "last": 2}),
+    (ranges.is_cover, {"signs": 2, "code": C, "first": 1, "last": 2, "value": ((1, 0), (1, 1, 0))}),
+    (texts.code_text, {"code": C}),
+    (texts.row_text, {"row": (1, 16)}),
+    (texts.read_code, {"signs": 2, "value": " 0  10 110 111 "}),
+    (texts.read_row, {"value": "1 2 3 3"}),
 ]
 INTERFACE = {
     codes: ["is_word", "is_start", "parted", "code_error", "lengths", "joined", "read"],
@@ -60,7 +68,21 @@ INTERFACE = {
     bounds_of: ["regret", "worst", "shown", "always_best", "mended"],
     gaps: ["free", "room", "put_in", "changed", "is_put", "pages"],
     held: ["held_error", "first_held", "last_held", "count_held", "least_held", "best_held"],
+    ranges: ["told_by", "cover", "is_cover"],
+    texts: ["code_text", "row_text", "read_code", "read_row"],
 }
+# Each class of the interface with the names of its arguments, its methods with theirs, its properties and operators.
+CLASSES = {
+    indexes.Index: (
+        ["signs", "code", "most"],
+        {"put": ["gap", "word"], "squeeze": ["gap"], "take": ["key"], "recode": ["weights"], "undo": [],
+         "tried": ["function"]},
+        ["signs", "code", "most", "version", "moved"],
+        ["__getitem__", "__len__", "__eq__", "__str__"],
+    ),
+    desks.Desk: (["index"], {"say": ["line"]}, ["history"], []),
+}
+PLACES = {indexes.Index: "ordercodes.indexes", desks.Desk: "ordercodes.desks"}
 TAKING_ANY_VALUE = [
     lambda value: codes.is_word(2, value),
     lambda value: codes.code_error(2, value),
@@ -72,11 +94,28 @@ TAKING_ANY_VALUE = [
     lambda value: gaps.is_put(2, C, 1, 1, 3, value),
     lambda value: gaps.is_put(2, C, 1, 13, 3, value),
     lambda value: held.held_error(2, (3, 2, 3), value),
+    lambda value: ranges.is_cover(2, C, 1, 2, value),
+    lambda value: texts.read_code(2, value),
+    lambda value: texts.read_row(value),
+    lambda value: indexes.Index(value, C, 3).code,
+    lambda value: indexes.Index(2, value, 16).code,
+    lambda value: indexes.Index(2, C, value).code,
+    lambda value: indexes.Index(2, C, 3).put(value, (0, 1)),
+    lambda value: indexes.Index(2, ((0,), (1, 1)), 3).put(1, value),
+    lambda value: indexes.Index(2, C, 3).squeeze(value),
+    lambda value: indexes.Index(2, C, 3).take(value),
+    lambda value: indexes.Index(2, C, 3).recode(value),
+    lambda value: indexes.Index(2, C, 3)[value],
+    lambda value: indexes.Index(2, C, 3) == value,
+    lambda value: desks.Desk(indexes.Index(2, C, 3)).say(value),
 ]
 TELLING_WHETHER = [
     lambda value: codes.is_word(2, value),
     lambda value: totals.is_ledger(2, (5, 1, 1), value),
     lambda value: gaps.is_put(2, ((0,), (1,)), 1, 1, 2, value),
+    lambda value: ranges.is_cover(2, ((0,), (1,)), 0, 0, value),
+    lambda value: indexes.Index(2, C, 3) == value,
+    lambda value: indexes.Index(2, C, 3) != value,
 ]
 
 
@@ -103,14 +142,44 @@ class InterfaceTest(TestCase):
             same(self, function(**turned), function(*told.values()))
 
 
+class ClassesTest(TestCase):
+    def test_classes_are_defined_in_their_files(self):
+        for told, place in PLACES.items():
+            self.assertEqual(told.__module__, place)
+
+    def test_names_of_arguments(self):
+        for told, (names, methods, _, _) in CLASSES.items():
+            self.assertEqual(list(inspect.signature(told).parameters), names)
+            for name, others in methods.items():
+                self.assertEqual(list(inspect.signature(getattr(told, name)).parameters)[1:], others, name)
+
+    def test_methods_properties_and_operators_are_defined_in_the_class_itself(self):
+        for told, (_, methods, properties, operators) in CLASSES.items():
+            for name in [*methods, *operators]:
+                self.assertTrue(inspect.isfunction(vars(told)[name]), name)
+            for name in properties:
+                self.assertIsInstance(vars(told)[name], property, name)
+                self.assertIsNone(vars(told)[name].fset, name)
+
+
 class ResultsTest(TestCase):
     def test_results_are_made_of_tuples(self):
         for function, told in CALLS:
             self.assertTrue(only_tuples(function(**told)), function.__name__)
 
+    def test_what_objects_tell_is_made_of_tuples(self):
+        index = indexes.Index(2, C, 3)
+        desk = desks.Desk(index)
+        told = [index.take(0), index.put(0, (0,)), index.squeeze(1), index.recode((1, 1, 1, 1, 1)), index.undo(),
+                desk.say("row"), desk.say([])]
+        told += [index.signs, index.code, index.most, index.version, index.moved, index[0], len(index), str(index),
+                 desk.history]
+        self.assertTrue(all(only_tuples(value) for value in told))
+
     def test_what_tells_whether_something_is_so_is_true_or_false(self):
         for call in TELLING_WHETHER:
-            for value in [(), (0,), (2,), None, 0, [], "", ((6, 9), (2,)), ((0,), (1, 0), (1, 1)), ((0, 0), (0, 1), (1,))]:
+            for value in [(), (0,), (2,), None, 0, [], "", ((6, 9), (2,)), ((0,), (1, 0), (1, 1)),
+                          ((0, 0), (0, 1), (1,))]:
                 self.assertIn(repr(call(value)), ("True", "False"))
         for row in [(1, 2, 2), (2, 2, 1), (1, 1, 1)]:
             self.assertIn(repr(totals.is_best(2, (5, 1, 1), row, 3)), ("True", "False"))

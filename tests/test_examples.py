@@ -1,4 +1,4 @@
-"""The examples of the document's sections 1 to 5, and those of section 8 on words held, as Python sessions."""
+"""The examples of the document, as Python sessions."""
 
 from doctest import DocTestParser, DocTestRunner
 from unittest import TestCase
@@ -47,6 +47,24 @@ mended(2, (1, 1, 1), 1)
 1), (1, 0), (1, 1, 0), (1, 1, 1))), is_put(2, C, 1, 1, 3, ((0,), (1, 0, 0), (1, 0, 1), (1, 1, 0), (1, 1, 1)))
 (True, True, True)
 """,
+    "section 6": """
+>>> from ordercodes.indexes import Index
+>>> index = Index(2, C, 3)
+>>> index.take(1), index.put(1, (1, 0)), index.moved, index.recode((1, 1, 1, 1)), index.code, index.moved, \
+index.undo(), index.moved, str(index)
+(1, 2, (), 3, ((0, 0), (0, 1), (1, 0), (1, 1)), (0, 1, 2, 3), 2, (0, 1, 2, 3), '4 keys, version 2')
+""",
+    "section 7": """
+>>> from ordercodes.texts import code_text, read_code, read_row, row_text
+>>> code_text(C), read_code(2, " 0  10 110 111 ") == C, read_row("1 2 3 3"), row_text((1, 16))
+('0 10 110 111', True, (1, 2, 3, 3), '1 16')
+>>> from ordercodes.desks import Desk
+>>> from ordercodes.indexes import Index
+>>> desk = Desk(Index(2, C, 3))
+>>> [desk.say(line) for line in ["word 2", "keys 100111", "take 1", "free 1", "room 1", "put 1 10", "put 1 10", "pages 2", \
+"keys 11"]]
+['110', '1 0 3', 'ok 1', '10', '2', 'ok 2', 'no Crowded', '2', 'no BadRow']
+""",
     "section 8, words held": """
 >>> from ordercodes.held import best_held, count_held, first_held, held_error, last_held, least_held
 >>> held_error(2, (3, 2, 3), (None, (1, 0), None)), held_error(2, (3, 2, 3), (None, (0, 0), None)), held_error(2, \
@@ -58,6 +76,11 @@ mended(2, (1, 1, 1), 1)
 >>> least_held(2, (5, 1, 1), (None, (1, 0), None), 3), best_held(2, (5, 1, 1), (None, (1, 0), None), 3), \
 least_held(2, (5, 1, 1), (None, (0,), None), 3)
 (9, (1, 2, 2), None)
+""",
+    "section 8, keys in a row": """
+>>> from ordercodes.ranges import cover, is_cover, told_by
+>>> told_by(C, (1, 1)), told_by(C, (0, 0)), cover(2, C, 1, 3), cover(2, C, 0, 2), is_cover(2, C, 1, 2, ((1, 0), (1, 1, 0)))
+((2, 3), None, ((1,),), ((0,), (1, 0), (1, 1, 0)), True)
 """,
 }
 

@@ -11,11 +11,14 @@ FOLDER = Path(ordercodes.__file__).parent
 FILES = sorted(FOLDER.glob("*.py"))
 LIBRARY = {"heapq", "math", "itertools", "collections"}
 ROWS = (ast.Import, ast.ImportFrom, ast.FunctionDef, ast.ClassDef, ast.Assign)
-BUILTINS = {"len", "range", "enumerate", "zip", "min", "max", "sum", "abs", "sorted", "reversed", "int", "str", "bool", "list",
-            "tuple", "dict", "set", "isinstance", "any", "all", "ValueError", "LookupError"}
+BUILTINS = {"len", "range", "enumerate", "zip", "min", "max", "sum", "abs", "sorted", "reversed", "int", "str", "bool",
+            "list",
+            "tuple", "dict", "set", "isinstance", "any", "all", "ValueError", "LookupError", "TypeError", "property",
+            "type"}
 # A session of examples leaves its last result there as _.
 ALL_BUILTINS = {name for name in vars(builtins) if name != "_"}
 METHODS = {"append", "pop", "get", "items", "index", "count", "extend", "join", "split", "setdefault", "__init__"}
+DOUBLE = {"__init__", "__getitem__", "__iter__", "__len__", "__eq__", "__str__"}
 BARRED = (ast.GeneratorExp, ast.Global, ast.AsyncFunctionDef, ast.Await, ast.Div)
 
 
@@ -78,7 +81,8 @@ class LanguageTest(TestCase):
         for name, node in self.nodes():
             if isinstance(node, ast.Call):
                 starred = [told.value for told in node.args if isinstance(told, ast.Starred)]
-                self.assertTrue(all(isinstance(told, (ast.Name, ast.Constant, ast.List, ast.Tuple)) for told in starred), name)
+                self.assertTrue(all(isinstance(told, (ast.Name, ast.Constant, ast.List,
+                                                      ast.Tuple)) for told in starred), name)
 
     def test_is_stands_beside_none_true_and_false_only(self):
         for name, node in self.nodes():
@@ -95,9 +99,44 @@ class LanguageTest(TestCase):
                 self.assertNotIn(told, ALL_BUILTINS, name)
 
     def test_methods_are_those_allowed(self):
+        own = {row.name for _, node in self.nodes() if isinstance(node, ast.ClassDef) for row in node.body
+               if isinstance(row, ast.FunctionDef)}
         for name, node in self.nodes():
             if isinstance(node, ast.Call) and isinstance(node.func, ast.Attribute):
-                self.assertIn(node.func.attr, METHODS, name)
+                self.assertIn(node.func.attr, METHODS | own, name)
+
+    def test_double_underscores_are_those_allowed(self):
+        for name, node in self.nodes():
+            if isinstance(node, ast.ClassDef):
+                told = {row.name for row in node.body if isinstance(row, ast.FunctionDef) and row.name.startswith("__")}
+                self.assertLessEqual(told, DOUBLE, name)
+                self.assertEqual("__getitem__" in told, "__iter__" in told, name)
+
+    def test_only_properties_are_decorated_and_have_no_setter(self):
+        for name, node in self.nodes():
+            if isinstance(node, (ast.FunctionDef, ast.ClassDef)):
+                told = [ast.unparse(row) for row in node.decorator_list]
+                self.assertIn(told, ([], ["property"]), f"{name} {node.name}")
+
+    def test_the_class_of_a_value_is_only_asked_for_its_name(self):
+        for name, node in self.nodes():
+            inner = [told for told in ast.iter_child_nodes(node) if isinstance(told, ast.Call)
+                     and isinstance(told.func, ast.Name) and told.func.id == "type"]
+            if inner:
+                self.assertEqual((type(node), getattr(node, "attr", "")), (ast.Attribute, "__name__"), name)
+
+    def test_a_finally_puts_names_back_alone(self):
+        for name, node in self.nodes():
+            for row in node.finalbody if isinstance(node, ast.Try) else ():
+                self.assertIsInstance(row, ast.Assign, name)
+                for told in ast.walk(row):
+                    self.assertIsInstance(told, (ast.Assign, ast.Tuple, ast.Name, ast.Attribute, ast.expr_context),
+                                          name)
+
+    def test_errors_that_are_caught_are_those_of_the_package(self):
+        for name, node in self.nodes():
+            if isinstance(node, ast.ExceptHandler):
+                self.assertEqual(ast.unparse(node.type), "(CodeError, NoCode, NoGap, NoKey)", name)
 
     def test_no_name_means_anything_else_than_the_import_of_its_file(self):
         for file in FILES:
