@@ -148,3 +148,41 @@ def least_by_cuts(signs, costs, most):
         return min(found, default=None)
 
     return under(0, len(costs), 0)
+
+
+def least_keeping(signs, weights, pins, most):
+    """The least pair of a total and the row that has it, of all codes that keep the pins; None if there is none.
+
+    It goes down from the word () by all signs, and through all ways to part the keys among them.
+    """
+    begun = {}
+    for key, pin in enumerate(pins):
+        for size in range(0 if pin is None else len(pin) + 1):
+            begun.setdefault(pin[:size], set()).add(key)
+    pinned = {key for key, pin in enumerate(pins) if pin is not None}
+
+    @lru_cache(maxsize=None)
+    def under(first, end, word, depth):
+        if {key for key in pinned if first <= key < end} != begun.get(word, set()):
+            return None
+        found = [beside(first, end, word, depth, 0)] if depth < most else []
+        if end - first == 1 and pins[first] in (None, word):
+            found.append((weights[first] * depth, (depth,)))
+        return min((told for told in found if told is not None), default=None)
+
+    @lru_cache(maxsize=None)
+    def beside(first, end, word, depth, sign):
+        if first == end:
+            return (0, ())
+        if sign == signs:
+            return None
+        # All words that begin no pin are alike.
+        next_word = word + (sign,) if word is not None and word + (sign,) in begun else None
+        found = [beside(first, end, word, depth, sign + 1)]
+        for cut in range(first + 1, end + 1):
+            one, rest = under(first, cut, next_word, depth + 1), beside(cut, end, word, depth, sign + 1)
+            if one is not None and rest is not None:
+                found.append((one[0] + rest[0], one[1] + rest[1]))
+        return min((told for told in found if told is not None), default=None)
+
+    return under(0, len(pins), () if begun else None, 0)
